@@ -54,6 +54,16 @@ func numbersOfCells(wide, high int) []int {
 	return list
 }
 
+// stepByHand returns where a way leads from a cell, by the document.
+func stepByHand(s impl.Sea, cell, way int) int {
+	step := [5][2]int{{0, 0}, {0, -1}, {1, 0}, {0, 1}, {-1, 0}}[way]
+	x, y := cell%6+step[0], cell/6+step[1]
+	if x < 0 || y < 0 || x >= int(s.Wide) || y >= int(s.High) {
+		return -1
+	}
+	return x + 6*y
+}
+
 // randomChances deals the 12 parts out, to few ways or to all of them.
 func randomChances(r *rand.Rand) impl.Chances {
 	var c impl.Chances

@@ -155,16 +155,11 @@ func TestCellAt(t *testing.T) {
 }
 
 func TestGoesTo(t *testing.T) {
-	step := [5][2]int{{0, 0}, {0, -1}, {1, 0}, {0, 1}, {-1, 0}}
 	for _, s := range manySeas() {
 		wide, high := int(s.Wide), int(s.High)
 		for _, cell := range numbersOfCells(wide, high) {
 			for way := range 5 {
-				x, y := cell%6+step[way][0], cell/6+step[way][1]
-				want := x + 6*y
-				if x < 0 || y < 0 || x >= wide || y >= high {
-					want = -1
-				}
+				want := stepByHand(s, cell, way)
 				to, code := impl.GoesTo(s, int64(cell), int64(way))
 				if int(to) != want || code != impl.OK {
 					t.Fatalf("%d by %d, cell %d, way %d: %d %d, want %d", wide, high, cell, way, to, code, want)

@@ -94,9 +94,14 @@ func checkZero(t *testing.T, name string, results []any) {
 // spoil overwrites what a call has returned, as its caller may.
 func spoil(results []any) {
 	for _, result := range results {
-		if rows, ok := result.([]string); ok {
-			for i := range rows {
-				rows[i] = "spoiled"
+		switch list := result.(type) {
+		case []string:
+			for i := range list {
+				list[i] = "spoiled"
+			}
+		case []int64:
+			for i := range list {
+				list[i] = -13
 			}
 		}
 	}
@@ -106,8 +111,11 @@ func spoil(results []any) {
 func kept(results []any) []any {
 	list := append([]any{}, results...)
 	for i, result := range list {
-		if rows, ok := result.([]string); ok {
+		switch rows := result.(type) {
+		case []string:
 			list[i] = append([]string{}, rows...)
+		case []int64:
+			list[i] = append([]int64{}, rows...)
 		}
 	}
 	return list
@@ -116,7 +124,7 @@ func kept(results []any) []any {
 // TestPromise1 makes each call twice, in another order and behind results that
 // have been overwritten: it returns, and returns the same.
 func TestPromise1(t *testing.T) {
-	calls := callsWithoutSea()
+	calls := append(callsWithoutSea(), callsOfShares()...)
 	seas := manySeas()[:8]
 	bad := badSeas(t)
 	for _, name := range slices.Sorted(maps.Keys(bad)) {
@@ -125,6 +133,7 @@ func TestPromise1(t *testing.T) {
 	for i, s := range seas {
 		calls = append(calls, callsOfSea(s, seas[(i+1)%len(seas)])...)
 		calls = append(calls, callsOfSea(s, s)...)
+		calls = append(calls, callsOfDrift(s)...)
 	}
 	first := make([][]any, len(calls))
 	for i, c := range calls {
