@@ -103,6 +103,14 @@ func spoil(results []any) {
 			for i := range list {
 				list[i] = -13
 			}
+		case []impl.Find:
+			for i := range list {
+				list[i] = impl.Find{Beach: -13, Hour: -13}
+			}
+		case []impl.Share:
+			for i := range list {
+				list[i] = impl.Share{P: -13, Q: -13}
+			}
 		}
 	}
 }
@@ -116,6 +124,10 @@ func kept(results []any) []any {
 			list[i] = append([]string{}, rows...)
 		case []int64:
 			list[i] = append([]int64{}, rows...)
+		case []impl.Find:
+			list[i] = append([]impl.Find{}, rows...)
+		case []impl.Share:
+			list[i] = append([]impl.Share{}, rows...)
 		}
 	}
 	return list
@@ -134,6 +146,7 @@ func TestPromise1(t *testing.T) {
 		calls = append(calls, callsOfSea(s, seas[(i+1)%len(seas)])...)
 		calls = append(calls, callsOfSea(s, s)...)
 		calls = append(calls, callsOfDrift(s)...)
+		calls = append(calls, callsOfFinds(s)...)
 	}
 	first := make([][]any, len(calls))
 	for i, c := range calls {
