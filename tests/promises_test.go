@@ -111,6 +111,10 @@ func spoil(results []any) {
 			for i := range list {
 				list[i] = impl.Share{P: -13, Q: -13}
 			}
+		case impl.Bounds:
+			for i := range list {
+				list[i] = [36]int64{-13}
+			}
 		}
 	}
 }
@@ -128,6 +132,8 @@ func kept(results []any) []any {
 			list[i] = append([]impl.Find{}, rows...)
 		case []impl.Share:
 			list[i] = append([]impl.Share{}, rows...)
+		case impl.Bounds:
+			list[i] = append(impl.Bounds{}, rows...)
 		}
 	}
 	return list
@@ -147,6 +153,7 @@ func TestPromise1(t *testing.T) {
 		calls = append(calls, callsOfSea(s, s)...)
 		calls = append(calls, callsOfDrift(s)...)
 		calls = append(calls, callsOfFinds(s)...)
+		calls = append(calls, callsOfOrigins(s)...)
 	}
 	first := make([][]any, len(calls))
 	for i, c := range calls {
