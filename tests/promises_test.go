@@ -111,6 +111,10 @@ func spoil(results []any) {
 			for i := range list {
 				list[i] = impl.Share{P: -13, Q: -13}
 			}
+		case []impl.Spot:
+			for i := range list {
+				list[i] = impl.Spot{Tide: -13, Cell: -13}
+			}
 		case impl.Bounds:
 			for i := range list {
 				list[i] = [36]int64{-13}
@@ -132,6 +136,8 @@ func kept(results []any) []any {
 			list[i] = append([]impl.Find{}, rows...)
 		case []impl.Share:
 			list[i] = append([]impl.Share{}, rows...)
+		case []impl.Spot:
+			list[i] = append([]impl.Spot{}, rows...)
 		case impl.Bounds:
 			list[i] = append(impl.Bounds{}, rows...)
 		}
@@ -154,6 +160,8 @@ func TestPromise1(t *testing.T) {
 		calls = append(calls, callsOfDrift(s)...)
 		calls = append(calls, callsOfFinds(s)...)
 		calls = append(calls, callsOfOrigins(s)...)
+		calls = append(calls, callsOfMaps(s, otherMap(s))...)
+		calls = append(calls, callsOfMaps(s, seas[(i+1)%len(seas)])...)
 	}
 	first := make([][]any, len(calls))
 	for i, c := range calls {
