@@ -115,6 +115,14 @@ func spoil(results []any) {
 			for i := range list {
 				list[i] = impl.Spot{Tide: -13, Cell: -13}
 			}
+		case []impl.Fate:
+			for i := range list {
+				list[i] = impl.Fate{Cell: -13, Tide: -13}
+			}
+		case []uint64:
+			for i := range list {
+				list[i] = math.MaxUint64 - 13
+			}
 		case impl.Bounds:
 			for i := range list {
 				list[i] = [36]int64{-13}
@@ -138,6 +146,10 @@ func kept(results []any) []any {
 			list[i] = append([]impl.Share{}, rows...)
 		case []impl.Spot:
 			list[i] = append([]impl.Spot{}, rows...)
+		case []impl.Fate:
+			list[i] = append([]impl.Fate{}, rows...)
+		case []uint64:
+			list[i] = append([]uint64{}, rows...)
 		case impl.Bounds:
 			list[i] = append(impl.Bounds{}, rows...)
 		}
@@ -162,6 +174,9 @@ func TestPromise1(t *testing.T) {
 		calls = append(calls, callsOfOrigins(s)...)
 		calls = append(calls, callsOfMaps(s, otherMap(s))...)
 		calls = append(calls, callsOfMaps(s, seas[(i+1)%len(seas)])...)
+	}
+	for _, s := range append(seasOfFew(), seas[6:]...) {
+		calls = append(calls, callsOfEver(s)...)
 	}
 	first := make([][]any, len(calls))
 	for i, c := range calls {
