@@ -137,3 +137,15 @@ func badSeas(t *testing.T) map[string]impl.Sea {
 	add("too high alone", func(s *impl.Sea) { *s = still(t, 6, 6, 0); s.High = 7 })
 	return list
 }
+
+// textsBeside returns texts that are nearly the given one, of several lines of
+// numbers, each for one reason, by its name.
+func textsBeside(text string) map[string]string {
+	return map[string]string{
+		"no end": text[:len(text)-1], "blank line": text + "\n", "leading line": "\n" + text, "leading blank": " " + text,
+		"leading zero": "0" + text, "sign": "+" + text, "returns": strings.ReplaceAll(text, "\n", "\r\n"),
+		"trailing blanks": strings.ReplaceAll(text, "\n", " \n"), "two blanks": strings.ReplaceAll(text, " ", "  "),
+		"tabs": strings.ReplaceAll(text, " ", "\t"), "zero byte": text + "\x00", "twice": text + text,
+		"no first line": text[strings.IndexByte(text, '\n')+1:],
+	}
+}

@@ -35,13 +35,9 @@ func TestSpreadsAreRead(t *testing.T) {
 			if back != x || code != impl.OK {
 				t.Fatalf("%q: %v %d", text, back, code)
 			}
-			for name, other := range map[string]string{
-				"no end": text[:len(text)-1], "blank line": text + "\n", "leading line": "\n" + text, "leading blank": " " + text,
-				"leading zero": "0" + text, "sign": "+" + text, "returns": strings.ReplaceAll(text, "\n", "\r\n"),
-				"trailing blanks": strings.ReplaceAll(text, "\n", " \n"), "two blanks": strings.ReplaceAll(text, " ", "  "),
-				"tabs": strings.ReplaceAll(text, " ", "\t"), "zero byte": text + "\x00", "twice": text + text,
-				"nothing out": text + "out 0\n", "no first line": text[strings.IndexByte(text, '\n')+1:],
-			} {
+			others := textsBeside(text)
+			others["nothing out"] = text + "out 0\n"
+			for name, other := range others {
 				got, code := impl.ReadSpread(s, other)
 				if got != (impl.Spread{}) || code != impl.ErrSyntax {
 					t.Fatalf("%s: %q is read", name, other)

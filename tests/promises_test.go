@@ -127,6 +127,10 @@ func spoil(results []any) {
 			for i := range list {
 				list[i] = [36]int64{-13}
 			}
+		case impl.Plan:
+			for i := range list.Releases {
+				list.Releases[i] = impl.Release{Cell: -13, Hour: -13, Bottles: -13}
+			}
 		}
 	}
 }
@@ -152,6 +156,9 @@ func kept(results []any) []any {
 			list[i] = append([]uint64{}, rows...)
 		case impl.Bounds:
 			list[i] = append(impl.Bounds{}, rows...)
+		case impl.Plan:
+			rows.Releases = append([]impl.Release{}, rows.Releases...)
+			list[i] = rows
 		}
 	}
 	return list
@@ -177,6 +184,7 @@ func TestPromise1(t *testing.T) {
 	}
 	for _, s := range append(seasOfFew(), seas[6:]...) {
 		calls = append(calls, callsOfEver(s)...)
+		calls = append(calls, callsOfPlans(s)...)
 	}
 	first := make([][]any, len(calls))
 	for i, c := range calls {
